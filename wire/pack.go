@@ -45,7 +45,7 @@ func putValue(out []byte, p api.Post) []byte {
 	return append(out, p.Text...)
 }
 
-// putNumbers writes each number in width bytes, the low one first.
+// putNumbers is the one place that settles the order of bytes: the low one first (P3).
 func putNumbers(out []byte, width int, numbers ...int) []byte {
 	for _, n := range numbers {
 		for range width {

@@ -68,7 +68,7 @@ func (r *reader) value() api.Post {
 	return p
 }
 
-// number reads a number of width bytes, the low one first.
+// number undoes what putNumbers does to one number: the low byte is the first.
 func (r *reader) number(width int) int {
 	n := 0
 	for i, b := range []byte(r.take(width)) {
