@@ -37,7 +37,7 @@ func putVotes(out []byte, votes []api.Vote) []byte {
 
 func putValue(out []byte, p api.Post) []byte {
 	out = putNumbers(out, 1, p.Client)
-	if isNothing(p) {
+	if IsNothing(p) {
 		return out
 	}
 	out = putNumbers(out, 2, p.Seq)

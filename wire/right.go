@@ -36,7 +36,7 @@ func rightMessage(m api.Message) bool {
 	return rightKind(m.Kind) && rightReplica(m.From) && rightReplica(m.To) &&
 		fits(has.ballot, rightBallot(m.Ballot), m.Ballot == 0) &&
 		fits(has.slot, rightSlot(m.Slot), m.Slot == 0) &&
-		fits(has.value, rightValue(m.Value), isNothing(m.Value)) &&
+		fits(has.value, rightValue(m.Value), IsNothing(m.Value)) &&
 		fits(has.accepted, rightVotes(m.Accepted), len(m.Accepted) == 0)
 }
 
@@ -61,14 +61,16 @@ func rightSlot(slot int) bool {
 }
 
 func rightValue(p api.Post) bool {
-	return isNothing(p) || rightPost(p)
+	return IsNothing(p) || RightPost(p)
 }
 
-func isNothing(p api.Post) bool {
+// IsNothing asks more than Client 0, for all else must be empty too.
+func IsNothing(p api.Post) bool {
 	return p == api.Post{}
 }
 
-func rightPost(p api.Post) bool {
+// RightPost is false of nothing, which is a value but no post.
+func RightPost(p api.Post) bool {
 	return within(p.Client, 1, api.MaxClient) && within(p.Seq, 1, api.MaxSeq) &&
 		within(p.Channel, 0, api.Channels-1) && len(p.Text) <= api.MaxText
 }
