@@ -26,12 +26,29 @@ func (net *Net) Put(m api.Message) {
 
 // Take takes message k out; false, if there is none.
 func (net *Net) Take(k int) (api.Message, bool) {
-	if k < 0 || k >= len(net.messages) {
+	if !net.has(k) {
 		return api.Message{}, false
 	}
 	m := net.messages[k]
 	net.messages = slices.Delete(net.messages, k, k+1)
 	return m, true
+}
+
+// Double puts message k once more behind all others (P6).
+func (net *Net) Double(k int) api.Errno {
+	switch {
+	case !net.has(k):
+		return api.ErrArg
+	case !net.Room(1):
+		return api.ErrNet
+	}
+	// The two may have one list of votes: nobody writes into it, and List gives copies out.
+	net.Put(net.messages[k])
+	return api.OK
+}
+
+func (net *Net) has(k int) bool {
+	return k >= 0 && k < len(net.messages)
 }
 
 // List copies the lists within messages too, for the caller may write into them.

@@ -59,6 +59,12 @@ func (r *Replica) Submit(p api.Post) api.Errno {
 	return api.OK
 }
 
+// Crash keeps what others may build on: what was promised, accepted and decided (P7).
+func (r *Replica) Crash() {
+	r.seen = 0
+	r.role = idle{}
+}
+
 // Role tells how it stands (P8).
 func (r *Replica) Role() api.Role {
 	told := r.role.tell()

@@ -20,6 +20,26 @@ func busy(t *testing.T) room {
 	return r
 }
 
+// doubled is busy, with each Promise twice.
+func doubled(t *testing.T) room {
+	r := busy(t)
+	for k := range 3 {
+		r.double(k)
+	}
+	return r
+}
+
+// voteUnderWay is a room in which 2 prepares 18, and Promises of 1, who alone has accepted hi for slot 0, and of 2 are on their way.
+func voteUnderWay(t *testing.T) room {
+	r := led(t, 3, 0)
+	r.submit(0, hi)
+	r.give(propose(0, 1, 8, 0, hi))
+	r.loseAll()
+	r.campaign(2)
+	r.pass(api.Prepare, 2, 1, 2)
+	return r
+}
+
 // scribble writes into a list and its spare room.
 func scribble[T any](list []T, what T) {
 	room := list[:cap(list)]
@@ -44,12 +64,17 @@ func copyNet(net []api.Message) []api.Message {
 }
 
 func TestNetIsFresh(t *testing.T) {
-	r := busy(t)
+	checkNetIsFresh(busy(t))
+	checkNetIsFresh(doubled(t))
+}
+
+func checkNetIsFresh(r room) {
+	r.t.Helper()
 	first, second := r.Net(), r.Net()
 	want := copyNet(first)
 	scribbleNet(first)
 	if !slices.EqualFunc(second, want, sameMessage) {
-		t.Errorf("another list that came out is changed: %+v", second)
+		r.t.Errorf("another list that came out is changed: %+v", second)
 	}
 	r.checkNet(want...)
 	scribbleNet(r.Net())
@@ -62,7 +87,12 @@ func TestNetIsFresh(t *testing.T) {
 }
 
 func TestListsOfOneNetAreApart(t *testing.T) {
-	net := busy(t).Net()
+	checkListsAreApart(t, busy(t).Net())
+	checkListsAreApart(t, doubled(t).Net())
+}
+
+func checkListsAreApart(t *testing.T, net []api.Message) {
+	t.Helper()
 	want := copyNet(net)
 	for k := range net {
 		scribble(net[k].Accepted, vote(7, 8000, great))
@@ -74,6 +104,24 @@ func TestListsOfOneNetAreApart(t *testing.T) {
 	}
 }
 
+// Neither what Net gave out ahead of Double nor what it gives out behind it reaches what comes.
+func TestListOfDoubledPromiseIsTheCallers(t *testing.T) {
+	r := voteUnderWay(t)
+	k := r.find(api.Promise, 1, 2)
+	ahead := r.Net()
+	r.double(k)
+	scribbleNet(ahead)
+	scribbleNet(r.Net())
+	r.lose(k)
+	scribbleNet(r.Net())
+	last := len(r.Net()) - 1
+	if m := r.Net()[last]; !sameMessage(m, promise(1, 2, 18, vote(0, 8, hi))) {
+		t.Fatalf("what was doubled is %+v", m)
+	}
+	r.deliver(last)
+	r.come(api.Promise, 2, 2, proposals(3, 2, 18, 0, hi)...)
+}
+
 // What came out stays as it was, whatever is done with the synod.
 func TestWhatCameOutStays(t *testing.T) {
 	r := busy(t)
@@ -82,8 +130,11 @@ func TestWhatCameOutStays(t *testing.T) {
 	for _, posts := range before.posts {
 		kept.posts = append(kept.posts, slices.Clone(posts))
 	}
+	r.lose(0)
+	r.double(0)
 	r.settle()
 	r.submit(1, great)
+	r.crash(0)
 	r.campaign(2)
 	r.settle()
 	if !sameView(before, kept) {

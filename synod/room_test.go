@@ -62,6 +62,47 @@ func (r room) deliver(k int) {
 	}
 }
 
+func (r room) lose(k int) {
+	r.t.Helper()
+	if e := r.Lose(k); e != api.OK {
+		r.t.Fatalf("Lose(%d) = %d, with %d messages", k, e, len(r.Net()))
+	}
+}
+
+func (r room) double(k int) {
+	r.t.Helper()
+	if e := r.Double(k); e != api.OK {
+		r.t.Fatalf("Double(%d) = %d, with %d messages", k, e, len(r.Net()))
+	}
+}
+
+func (r room) crash(replica int) {
+	r.t.Helper()
+	if e := r.Crash(replica); e != api.OK {
+		r.t.Fatalf("Crash(%d) = %d", replica, e)
+	}
+}
+
+// loseAll leaves an empty net.
+func (r room) loseAll() {
+	r.t.Helper()
+	for range r.Net() {
+		r.lose(0)
+	}
+	r.checkNet()
+}
+
+// swell doubles the first message until there are so many.
+func (r room) swell(messages int) {
+	r.t.Helper()
+	for range messages - len(r.Net()) {
+		r.double(0)
+	}
+	if len(r.Net()) != messages {
+		r.t.Fatalf("%d messages, want %d", len(r.Net()), messages)
+	}
+}
+
 // find tells where the first message of a kind stands, from one replica to another.
 func (r room) find(kind, from, to int) int {
 	r.t.Helper()
@@ -215,6 +256,21 @@ func (r room) refusesSubmit(replica int, p api.Post, want api.Errno) {
 func (r room) refusesDeliver(k int) {
 	r.t.Helper()
 	r.refuses("Deliver", api.ErrArg, func() api.Errno { return r.Deliver(k) })
+}
+
+func (r room) refusesLose(k int) {
+	r.t.Helper()
+	r.refuses("Lose", api.ErrArg, func() api.Errno { return r.Lose(k) })
+}
+
+func (r room) refusesDouble(k int, want api.Errno) {
+	r.t.Helper()
+	r.refuses("Double", want, func() api.Errno { return r.Double(k) })
+}
+
+func (r room) refusesCrash(replica int) {
+	r.t.Helper()
+	r.refuses("Crash", api.ErrArg, func() api.Errno { return r.Crash(replica) })
 }
 
 // noReplicas are numbers that none of n replicas has.

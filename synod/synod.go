@@ -76,13 +76,25 @@ func (s *Synod) Deliver(k int) api.Errno {
 }
 
 // Lose loses a message (P6).
-func (s *Synod) Lose(k int) api.Errno { return api.OK }
+func (s *Synod) Lose(k int) api.Errno {
+	if _, ok := s.net.Take(k); !ok {
+		return api.ErrArg
+	}
+	return api.OK
+}
 
 // Double doubles a message (P6).
-func (s *Synod) Double(k int) api.Errno { return api.OK }
+func (s *Synod) Double(k int) api.Errno { return s.net.Double(k) }
 
 // Crash lets a replica forget (P7).
-func (s *Synod) Crash(replica int) api.Errno { return api.OK }
+func (s *Synod) Crash(replica int) api.Errno {
+	r := s.find(replica)
+	if r == nil {
+		return api.ErrArg
+	}
+	r.Crash()
+	return api.OK
+}
 
 // Log tells what is decided (P8).
 func (s *Synod) Log(replica int) ([]api.Post, api.Errno) {
